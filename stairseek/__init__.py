@@ -1,0 +1,1 @@
+"""Stairseek: a number sought in a table sorted both ways."""

@@ -1,0 +1,146 @@
+"""Those rules of LANGUAGE.md that can be read off the package's files row by row."""
+
+import ast
+import builtins
+import pathlib
+import re
+import unittest
+
+FOLDER = pathlib.Path(__file__).resolve().parent.parent / "stairseek"
+
+OWN_NAMES = set("""len range enumerate zip min max sum abs sorted reversed int str bool list tuple dict set frozenset
+isinstance ord repr any all divmod Exception ValueError TypeError KeyError IndexError LookupError ZeroDivisionError
+ArithmeticError OverflowError RuntimeError NotImplementedError AttributeError StopIteration""".split())
+
+OWN_METHODS = set("""append clear copy count endswith extend find get index insert isalnum isalpha isdigit islower
+isspace isupper items join keys ljust lower lstrip partition pop remove replace reverse rfind rjust rpartition rsplit
+rstrip setdefault split splitlines startswith strip update upper values zfill bit_length""".split())
+
+WORDS = re.compile(r"\b(type|typing|typing_extensions|enum|Enum|IntEnum|StrEnum|Flag|IntFlag|Generic|Protocol|ABC"
+                   r"|ABCMeta|namedtuple|NamedTuple|TypedDict|TYPE_CHECKING|abstractmethod)\b"
+                   r"|dataclass|overload|contextmanager")
+
+STATEMENTS = (ast.FunctionDef, ast.ClassDef, ast.Return, ast.Assign, ast.AugAssign, ast.For, ast.While, ast.If,
+              ast.Raise, ast.Try, ast.ImportFrom, ast.Expr, ast.Pass, ast.Break, ast.Continue)
+
+BARRED = (ast.Set, ast.SetComp, ast.DictComp, ast.GeneratorExp, ast.NamedExpr, ast.Starred, ast.Await, ast.Yield,
+          ast.YieldFrom, ast.Div, ast.MatMult)
+
+
+def files():
+    return sorted(FOLDER.glob("*.py"))
+
+
+def tree_of(file):
+    return ast.parse(file.read_text(encoding="utf-8"))
+
+
+def each_node():
+    for file in files():
+        for node in ast.walk(tree_of(file)):
+            yield (file.name, getattr(node, "lineno", 0)), node
+
+
+class LanguageTest(unittest.TestCase):
+    def test_nothing_but_plain_files_lies_in_the_package(self):
+        for path in FOLDER.iterdir():
+            if path.name != "__pycache__":
+                self.assertRegex(path.name, r"^(__init__|[a-z][a-z0-9_]*)\.py$")
+        self.assertIn("__init__.py", [file.name for file in files()])
+
+    def test_signs_and_sizes(self):
+        for file in files():
+            text = file.read_bytes().decode("ascii")
+            rows = text.split("\n")
+            self.assertLessEqual(len(rows), 401, file.name)
+            self.assertRegex(text, r"\A[ -~\n]*\Z", file.name)
+            self.assertIsNone(WORDS.search(text), file.name)
+            for row in rows:
+                self.assertLessEqual(len(row), 120, (file.name, row))
+
+    def test_statements_and_expressions(self):
+        for where, node in each_node():
+            if isinstance(node, ast.stmt):
+                self.assertIsInstance(node, STATEMENTS, where)
+            self.assertNotIsInstance(node, BARRED, where)
+            if isinstance(node, ast.Constant):
+                self.assertNotIsInstance(node.value, (float, bytes, complex), where)
+            if isinstance(node, (ast.For, ast.While)):
+                self.assertEqual(node.orelse, [], where)
+            if isinstance(node, ast.ListComp):
+                self.assertEqual(len(node.generators), 1, where)
+                self.assertLessEqual(len(node.generators[0].ifs), 1, where)
+            if isinstance(node, ast.Assign):
+                self.assertEqual(len(node.targets), 1, where)
+
+    def test_a_text_by_itself_stands_at_the_top_of_a_file_alone(self):
+        for where, node in each_node():
+            for inner in ast.iter_child_nodes(node):
+                if isinstance(inner, ast.Expr) and not isinstance(inner.value, ast.Call):
+                    self.assertIsInstance(node, ast.Module, where)
+                    self.assertIs(node.body[0], inner, where)
+
+    def test_functions(self):
+        for where, node in each_node():
+            if isinstance(node, ast.FunctionDef):
+                self.assertLessEqual(node.end_lineno - node.lineno + 1, 40, where)
+                self.assertEqual(node.decorator_list, [], where)
+                self.assertEqual((node.args.vararg, node.args.kwarg, node.args.kwonlyargs), (None, None, []), where)
+
+    def test_imports_are_the_packages_own_and_used(self):
+        for file in files():
+            tree = tree_of(file)
+            used = {node.id for node in ast.walk(tree) if isinstance(node, ast.Name)}
+            for node in ast.walk(tree):
+                if isinstance(node, ast.ImportFrom):
+                    self.assertEqual(node.level, 0)
+                    self.assertIn(node, tree.body)
+                    source = FOLDER / (node.module.replace("stairseek.", "", 1) + ".py")
+                    defined = [top.name for top in tree_of(source).body if hasattr(top, "name")]
+                    for name in node.names:
+                        self.assertIn(name.name, defined)
+                        self.assertIsNone(name.asname)
+                        self.assertIn(name.name, used)
+
+    def test_names(self):
+        for file in files():
+            tree = tree_of(file)
+            known = set(OWN_NAMES)
+            bound = set()
+            for node in ast.walk(tree):
+                if isinstance(node, (ast.FunctionDef, ast.ClassDef)):
+                    known.add(node.name)
+                elif isinstance(node, ast.ImportFrom):
+                    known.update(name.name for name in node.names)
+                elif isinstance(node, ast.arg):
+                    bound.add(node.arg)
+                elif isinstance(node, ast.Name) and isinstance(node.ctx, ast.Store):
+                    bound.add(node.id)
+                elif isinstance(node, ast.ExceptHandler) and node.name is not None:
+                    bound.add(node.name)
+            self.assertEqual(bound & known, set(), file.name)
+            self.assertEqual(bound & set(dir(builtins)), set(), file.name)
+            read = {node.id for node in ast.walk(tree) if isinstance(node, ast.Name)}
+            self.assertEqual(read - known - bound, set(), file.name)
+            for name in bound:
+                self.assertRegex(name, r"^[A-Za-z][A-Za-z0-9_]*$")
+
+    def test_methods_that_are_called(self):
+        own = set()
+        for where, node in each_node():
+            if isinstance(node, ast.ClassDef):
+                own.update(inner.name for inner in node.body if isinstance(inner, ast.FunctionDef))
+        for where, node in each_node():
+            if isinstance(node, ast.Call) and isinstance(node.func, ast.Attribute):
+                self.assertIn(node.func.attr, OWN_METHODS | own, where)
+
+    def test_is_stands_beside_none_and_truths_alone(self):
+        for where, node in each_node():
+            if isinstance(node, ast.Compare) and isinstance(node.ops[0], (ast.Is, ast.IsNot)):
+                sides = [node.left] + node.comparators
+                plain = [side for side in sides if isinstance(side, ast.Constant)]
+                self.assertTrue(any(side.value in (None, True, False) for side in plain), where)
+
+
+if __name__ == "__main__":
+    unittest.main()
