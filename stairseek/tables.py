@@ -47,10 +47,14 @@ def is_table(thing):
     return has_table_shape(thing) and is_sorted_both_ways(thing)
 
 
-def is_cell(table, thing):
+def is_cell_of_size(rows, places, thing):
     if not isinstance(thing, tuple) or len(thing) != 2 or not all_whole(thing):
         return False
-    return 0 <= thing[0] < len(table) and 0 <= thing[1] < len(table[0])
+    return 0 <= thing[0] < rows and 0 <= thing[1] < places
+
+
+def is_cell(table, thing):
+    return is_cell_of_size(len(table), len(table[0]), thing)
 
 
 def need_table(thing):

@@ -2,6 +2,8 @@
 
 import itertools
 
+from stairseek.errors import SeekError
+
 BIG = 10 ** 25 + 7
 BIGGEST = 10 ** 26 - 1
 
@@ -68,6 +70,10 @@ def no_cells(rows, places):
     return beyond + below + truths + kinds
 
 
+def cells_in(table):
+    return [(row, place) for row in range(len(table)) for place in range(len(table[0]))]
+
+
 def all_small_tables():
     """Every table of one to three rows and places with numbers out of 0, 2 and 4."""
     tables = []
@@ -105,4 +111,6 @@ def refuse(case, error, call, *given):
     with case.assertRaises(error, msg=before) as caught:
         call(*given)
     case.assertIs(caught.exception.__class__, error, before)
+    case.assertIsInstance(caught.exception, SeekError)
+    case.assertIsInstance(caught.exception, ValueError)
     case.assertEqual(repr(given), before)

@@ -20,6 +20,12 @@ WORDS = re.compile(r"\b(type|typing|typing_extensions|enum|Enum|IntEnum|StrEnum|
                    r"|ABCMeta|namedtuple|NamedTuple|TypedDict|TYPE_CHECKING|abstractmethod)\b"
                    r"|dataclass|overload|contextmanager")
 
+NOWHERE = set("""register mro elements open input version_info with_traceback add_note format format_map""".split())
+
+# Values of Python's own have these; an object's values may still be called by some of them.
+TAKEN = {name for kind in (str, int, list, dict, set, bytes, tuple, BaseException) for name in dir(kind)}
+FREE_AS_VALUES = set("count index title find get join lower upper split strip copy add".split())
+
 STATEMENTS = (ast.FunctionDef, ast.ClassDef, ast.Return, ast.Assign, ast.AugAssign, ast.For, ast.While, ast.If,
               ast.Raise, ast.Try, ast.ImportFrom, ast.Expr, ast.Pass, ast.Break, ast.Continue)
 
@@ -133,6 +139,47 @@ class LanguageTest(unittest.TestCase):
         for where, node in each_node():
             if isinstance(node, ast.Call) and isinstance(node.func, ast.Attribute):
                 self.assertIn(node.func.attr, OWN_METHODS | own, where)
+
+    def test_classes(self):
+        for file in files():
+            tree = tree_of(file)
+            for node in ast.walk(tree):
+                if isinstance(node, ast.ClassDef):
+                    self.assertIn(node, tree.body, node.name)
+                    self.assertEqual((node.decorator_list, node.keywords), ([], []), node.name)
+                    self.assertLessEqual(len(node.bases), 1, node.name)
+                    if not isinstance(node.body[0], ast.Pass):
+                        names = [inner.name for inner in node.body if isinstance(inner, ast.FunctionDef)]
+                        self.assertEqual(len(names), len(node.body), node.name)
+                        self.assertEqual(len(names), len(set(names)), node.name)
+
+    def test_methods_and_values_of_objects(self):
+        methods = set()
+        values = set()
+        for where, node in each_node():
+            if isinstance(node, ast.ClassDef):
+                methods.update(inner.name for inner in node.body if isinstance(inner, ast.FunctionDef))
+            if isinstance(node, ast.Attribute) and isinstance(node.ctx, ast.Store):
+                self.assertIsInstance(node.value, ast.Name, where)
+                values.add(node.attr)
+        self.assertEqual(methods & values, set())
+        self.assertEqual(values & (TAKEN - FREE_AS_VALUES), set())
+        allowed = OWN_METHODS | {"__init__", "__eq__", "__repr__", "__str__", "__len__", "add", "discard"}
+        self.assertEqual(methods & (TAKEN - allowed), set())
+
+    def test_names_that_are_not_used(self):
+        for where, node in each_node():
+            for part in ("name", "id", "attr", "arg"):
+                self.assertNotIn(getattr(node, part, None), NOWHERE, where)
+
+    def test_no_two_files_draw_from_one_another(self):
+        drawn = {file.stem: [node.module.rpartition(".")[2] for node in tree_of(file).body
+                             if isinstance(node, ast.ImportFrom)] for file in files()}
+        settled = set()
+        while len(settled) < len(drawn):
+            more = [name for name in drawn if name not in settled and settled.issuperset(drawn[name])]
+            self.assertNotEqual(more, [], sorted(set(drawn) - settled))
+            settled.update(more)
 
     def test_is_stands_beside_none_and_truths_alone(self):
         for where, node in each_node():

@@ -1,14 +1,10 @@
 import inspect
 import unittest
 
-from helpers import (BIG, BIGGEST, all_small_tables, ask, good_tables, no_cells, no_numbers, no_tables,
+from helpers import (BIG, BIGGEST, all_small_tables, ask, cells_in, good_tables, no_cells, no_numbers, no_tables,
                      numbers_around, odd_things, refuse)
 from stairseek.errors import NoCell, NoNumber, NoTable
 from stairseek.tables import cells_of, is_table, number_at
-
-
-def cells_in(table):
-    return [(row, place) for row in range(len(table)) for place in range(len(table[0]))]
 
 
 class InterfaceTest(unittest.TestCase):
