@@ -22,6 +22,12 @@ WORDS = re.compile(r"\b(type|typing|typing_extensions|enum|Enum|IntEnum|StrEnum|
 
 NOWHERE = set("""register mro elements open input version_info with_traceback add_note format format_map""".split())
 
+NOT_AS_NAMES = set("""attrgetter breakpoint builtins compile copyright credits delattr dir eval exec exit gc getattr
+globals hasattr help id importlib license locals methodcaller os quit setattr super type vars sys chr""".split())
+
+KEYWORDS = {"sorted": {"key", "reverse"}, "min": {"key", "default"}, "max": {"key", "default"}, "sum": {"start"},
+            "enumerate": {"start"}, "zip": {"strict"}}
+
 # Values of Python's own have these; an object's values may still be called by some of them.
 TAKEN = {name for kind in (str, int, list, dict, set, bytes, tuple, BaseException) for name in dir(kind)}
 FREE_AS_VALUES = set("count index title find get join lower upper split strip copy add".split())
@@ -113,9 +119,11 @@ class LanguageTest(unittest.TestCase):
             tree = tree_of(file)
             known = set(OWN_NAMES)
             bound = set()
+            methods = [inner for node in tree.body if isinstance(node, ast.ClassDef) for inner in node.body]
             for node in ast.walk(tree):
                 if isinstance(node, (ast.FunctionDef, ast.ClassDef)):
-                    known.add(node.name)
+                    # A method is no name of the file: a parameter may be called like one.
+                    known.update([] if node in methods else [node.name])
                 elif isinstance(node, ast.ImportFrom):
                     known.update(name.name for name in node.names)
                 elif isinstance(node, ast.arg):
@@ -171,6 +179,41 @@ class LanguageTest(unittest.TestCase):
         for where, node in each_node():
             for part in ("name", "id", "attr", "arg"):
                 self.assertNotIn(getattr(node, part, None), NOWHERE, where)
+            for part in ("id", "arg"):
+                self.assertNotIn(getattr(node, part, None), NOT_AS_NAMES, where)
+
+    def test_keywords(self):
+        for where, node in each_node():
+            if isinstance(node, ast.Call):
+                allowed = KEYWORDS.get(getattr(node.func, "id", None), set())
+                self.assertLessEqual({word.arg for word in node.keywords}, allowed, where)
+
+    def test_texts_and_powers(self):
+        for where, node in each_node():
+            if isinstance(node, ast.Constant) and isinstance(node.value, str):
+                self.assertRegex(node.value, r"\A[ -$&-~\n\t]*\Z", where)
+            if isinstance(node, ast.FormattedValue):
+                self.assertIsInstance(node.value, ast.Name, where)
+                self.assertIsNone(node.format_spec, where)
+            self.assertNotIsInstance(node, ast.Pow, where)
+
+    def test_the_top_of_a_file_keeps_plain_values(self):
+        for file in files():
+            for node in tree_of(file).body:
+                if isinstance(node, ast.Assign):
+                    self.assertIsInstance(node.targets[0], ast.Name)
+                    inner = list(ast.walk(node.value))[1:]
+                    self.assertFalse([one for one in inner if isinstance(one, (ast.List, ast.Dict))], file.name)
+                    kinds = (ast.Constant, ast.Tuple, ast.List, ast.Dict, ast.Load)
+                    self.assertFalse([one for one in [node.value] + inner if not isinstance(one, kinds)], file.name)
+
+    def test_errors_are_made_where_they_are_raised_and_of_the_packages_own(self):
+        refusals = [node.name for node in tree_of(FOLDER / "errors.py").body if isinstance(node, ast.ClassDef)]
+        for where, node in each_node():
+            if isinstance(node, ast.Raise):
+                self.assertIsInstance(node.exc, ast.Call, where)
+                self.assertIn(node.exc.func.id, refusals, where)
+            self.assertNotIsInstance(node, ast.Try, where)
 
     def test_no_two_files_draw_from_one_another(self):
         drawn = {file.stem: [node.module.rpartition(".")[2] for node in tree_of(file).body
